@@ -110,3 +110,58 @@ func TestOrderOfLevels(t *testing.T) {
 		}
 	}
 }
+
+func TestParagraph(t *testing.T) {
+	for _, c := range []struct {
+		text string
+		want int
+	}{
+		{"", 0},
+		{"1 !", 0},
+		{"a\u05d0", 0},
+		{"\u05d0a", 1},
+		{"!\u0627a", 1},
+		{"\u2067\u05d0\u2069a", 0},
+		{"\u2066a\u2069\u05d0", 1},
+		{"\u2066\u05d0", 0},
+	} {
+		if got := Paragraph(c.text); got != c.want {
+			t.Errorf("Paragraph(%+q) = %d, want %d", c.text, got, c.want)
+		}
+	}
+}
+
+func TestClosed(t *testing.T) {
+	for _, c := range []struct {
+		text string
+		want bool
+	}{
+		{"", true},
+		{"a(\u05d0\u200e\u200f\u061c", true},
+		{"\u202aa\u202c", true},
+		{"\u2068a\u2069", true},
+		{"\u202b\u2067\u202d\u202c\u2069\u2066\u2069\u202c\u202e\u202c", true},
+		{"\u202a", false},
+		{"\u2066", false},
+		{"\u202c", false},
+		{"\u2069", false},
+		{"\u202a\u2069", false},
+		{"\u2066\u202c", false},
+		{"\u202a\u2066\u202c\u2069", false},
+		{"\u2066\u202a\u2069\u202c", false},
+		{"\u202c\u202a", false},
+	} {
+		if got := Closed(c.text); got != c.want {
+			t.Errorf("Closed(%+q) = %v, want %v", c.text, got, c.want)
+		}
+	}
+}
+
+func TestTurns(t *testing.T) {
+	turning := []Class{LRE, RLE, LRO, RLO, PDF, LRI, RLI, FSI, PDI}
+	for c := L - 1; c <= PDI+1; c++ {
+		if got := c.Turns(); got != slices.Contains(turning, c) {
+			t.Errorf("class %d turns: %v", c, got)
+		}
+	}
+}

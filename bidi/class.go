@@ -65,6 +65,9 @@ func ClassOf(r rune) Class {
 	return L
 }
 
+// Turns: these runes turn the direction, or end that.
+func (c Class) Turns() bool { return c >= LRE && c <= PDI }
+
 func (c Class) embeds() bool { return c == LRE || c == RLE || c == LRO || c == RLO }
 
 func (c Class) isolates() bool { return c == LRI || c == RLI || c == FSI }

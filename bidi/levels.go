@@ -1,5 +1,8 @@
 package bidi
 
+// Paragraph is the paragraph level that is found for a line.
+func Paragraph(text string) int { return newLine(text, 2).paragraph }
+
 // Levels is the level of each rune of a line, from the paragraph level for a direction: 0, 1, or another that is found.
 func Levels(text string, direction int) []int {
 	l := newLine(text, direction)

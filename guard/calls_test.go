@@ -13,13 +13,18 @@ import (
 // alphabet has a rune of each class, and all brackets.
 var alphabet = []rune{'a', 0x05D0, 0x0627, '1', '+', '$', 0x0661, ',', 0x0300, 0x00AD, '\t', ' ', '!', '(', ')', '[', ']', '{', '}', 0x2329, 0x232A, 0x3008, 0x3009, 0x202A, 0x202B, 0x202D, 0x202E, 0x202C, 0x2066, 0x2067, 0x2068, 0x2069}
 
-// manyLines are lines without a plan, but the same ones at each call; some are no text.
-func manyLines() []string {
+// numbers are numbers below n without a plan, but the same ones each time.
+func numbers() func(n int) int {
 	state := uint32(1)
-	next := func(n int) int {
+	return func(n int) int {
 		state = state*1664525 + 1013904223
 		return int(state>>8) % n
 	}
+}
+
+// manyLines are lines without a plan, but the same ones at each call; some are no text.
+func manyLines() []string {
+	next := numbers()
 	var lines []string
 	for range 4000 {
 		var line strings.Builder
@@ -38,6 +43,36 @@ func manyLines() []string {
 		lines = append(lines, line.String())
 	}
 	return append(lines, strings.Repeat("\u2067", 200), strings.Repeat("\u202e", 200), strings.Repeat("(", 300), strings.Repeat("()", 150), strings.Repeat("\u2069", 200), strings.Repeat("\u202c", 200), strings.Repeat("\u2067\u2069", 100), strings.Repeat("\u0300", 300), strings.Repeat("\xff", 700))
+}
+
+// pieces: what parts begin and end with, what turns the direction, closed and not, and what may be turned.
+var pieces = []string{
+	"\"", "\"", "\"", "\\", "//", "/*", "*/", "*", "/", "\n", "\n",
+	"a", "b = ", "x", " ", " ", "1", "12", "+", ",", ";", "(", ")", "\t", "\u0300", "\u00ad",
+	"\u05d0", "\u05d1\u05d2", "\u0627", "\u0661", "\u200e", "\u200f",
+	"\u2067\u05d0\u2069", "\u202eab\u202c", "\u2068\u05d0 1\u2069", "\u202a\u2066a\u2069\u202c",
+	"\u202a", "\u202b", "\u202d", "\u202e", "\u202c", "\u2066", "\u2067", "\u2068", "\u2069",
+}
+
+// manyTexts are texts without a plan, but the same ones at each call; some are no text, some too long.
+func manyTexts() []string {
+	next := numbers()
+	var texts []string
+	for range 8000 {
+		var text strings.Builder
+		known := 30 + next(len(pieces)-29)
+		for range next(5) * next(16) {
+			text.WriteString(pieces[next(known)])
+		}
+		if next(100) == 0 {
+			text.WriteByte(byte(next(256)))
+		}
+		if next(200) == 0 {
+			text.WriteString(strings.Repeat(pieces[next(known)], 300))
+		}
+		texts = append(texts, text.String())
+	}
+	return texts
 }
 
 func TestAnswersHangTogether(t *testing.T) {
@@ -107,15 +142,30 @@ func TestListsAreNew(t *testing.T) {
 	}
 }
 
+func TestSafeIsNew(t *testing.T) {
+	text := "a\n\u05d0\nb"
+	first, err := guard.Safe(text)
+	if err != nil {
+		t.Fatalf("P1: %v", err)
+	}
+	for i := range first {
+		first[i] = !first[i]
+	}
+	if again, err := guard.Safe(text); err != nil || tellSafe(again) != "yny" {
+		t.Errorf("P1: asked again: %v, %v", again, err)
+	}
+}
+
 func TestCallsAtOnce(t *testing.T) {
-	lines := manyLines()[:200]
+	lines := append(manyLines()[:200], manyTexts()[:200]...)
 	ask := func() []string {
 		var answers []string
 		for _, line := range lines {
 			classes, _ := guard.Classes(line)
 			levels, _ := guard.Levels(line, 2)
 			order, _ := guard.Order(line, 1)
-			answers = append(answers, told(classes)+"|"+told(levels)+"|"+told(order))
+			safe, _ := guard.Safe(line)
+			answers = append(answers, told(classes)+"|"+told(levels)+"|"+told(order)+"|"+tellSafe(safe)+"|"+tellParts(line))
 		}
 		return answers
 	}

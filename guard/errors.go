@@ -54,3 +54,35 @@ func checkLine(line string) error {
 	}
 	return nil
 }
+
+func checkText(text string) error {
+	if len(text) > maxText {
+		return ErrLong
+	}
+	lines := strings.Split(text, "\n")
+	for number, line := range lines {
+		if at := runesEnd(line); at < len(line) {
+			return &LineError{Line: number, At: at, Err: ErrText}
+		}
+	}
+	for number, line := range lines {
+		if utf8.RuneCountInString(line) > maxLine {
+			return &LineError{Line: number, Err: ErrLong}
+		}
+	}
+	return nil
+}
+
+// runesEnd is the first byte that belongs to no rune, or the line's end.
+func runesEnd(line string) int {
+	at := 0
+	for at < len(line) {
+		r, size := utf8.DecodeRuneInString(line[at:])
+		// U+FFFD may have been written: only what is no rune has one byte.
+		if r == utf8.RuneError && size == 1 {
+			break
+		}
+		at += size
+	}
+	return at
+}

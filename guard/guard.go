@@ -1,10 +1,15 @@
 // Package guard: source text that reads as it is: see DOC.md.
 package guard
 
-import "bidiguard/bidi"
+import (
+	"strings"
+
+	"bidiguard/bidi"
+	"bidiguard/parts"
+)
 
 // Part is what of a piece of code (0), a string (1) or a comment (2) stands on one line: its bytes in the line, and those of its body.
-type Part struct{ Kind, From, To, Body, End int }
+type Part = parts.Part
 
 // Edit: from byte At of a text on Cut bytes are New.
 type Edit struct {
@@ -41,13 +46,31 @@ func Order(line string, direction int) ([]int, error) {
 	return bidi.Order(levels), nil
 }
 
-// Parts: P5, which is not built yet.
+// Parts: P5.
 func Parts(text string) func(yield func(int, Part) bool) {
-	return func(func(int, Part) bool) {}
+	return func(yield func(int, Part) bool) {
+		if len(text) <= maxText && yield != nil {
+			parts.Read(text, yield)
+		}
+	}
 }
 
-// Safe: P6, which is not built yet.
-func Safe(text string) ([]bool, error) { return nil, nil }
+// Safe: P6.
+func Safe(text string) ([]bool, error) {
+	if err := checkText(text); err != nil {
+		return nil, err
+	}
+	lines := strings.Split(text, "\n")
+	partsOf := make([][]Part, len(lines))
+	for number, part := range Parts(text) {
+		partsOf[number] = append(partsOf[number], part)
+	}
+	safe := make([]bool, len(lines))
+	for number, line := range lines {
+		safe[number] = isSafe(line, partsOf[number])
+	}
+	return safe, nil
+}
 
 // Sanitize: P7, which is not built yet.
 func Sanitize(text string) (string, []Edit, error) { return "", nil, nil }
