@@ -165,7 +165,9 @@ func TestCallsAtOnce(t *testing.T) {
 			levels, _ := guard.Levels(line, 2)
 			order, _ := guard.Order(line, 1)
 			safe, _ := guard.Safe(line)
-			answers = append(answers, told(classes)+"|"+told(levels)+"|"+told(order)+"|"+tellSafe(safe)+"|"+tellParts(line))
+			made, edits, _ := guard.Sanitize(line)
+			applied := guard.Apply(line, edits)
+			answers = append(answers, told(classes)+"|"+told(levels)+"|"+told(order)+"|"+tellSafe(safe)+"|"+tellParts(line)+"|"+made+"|"+tellEdits(edits)+"|"+applied)
 		}
 		return answers
 	}

@@ -72,8 +72,31 @@ func Safe(text string) ([]bool, error) {
 	return safe, nil
 }
 
-// Sanitize: P7, which is not built yet.
-func Sanitize(text string) (string, []Edit, error) { return "", nil, nil }
+// Sanitize: P7.
+func Sanitize(text string) (string, []Edit, error) {
+	safe, err := Safe(text)
+	if err != nil {
+		return "", nil, err
+	}
+	edits, err := editsOfText(text, safe)
+	if err != nil {
+		return "", nil, err
+	}
+	return Apply(text, edits), edits, nil
+}
 
-// Apply: P8, which is not built yet.
-func Apply(text string, edits []Edit) string { return "" }
+// Apply: P8.
+func Apply(text string, edits []Edit) string {
+	var made strings.Builder
+	last := 0 // where the last edit that was made ends
+	for _, edit := range edits {
+		if !liesWithin(edit, last, len(text)) {
+			continue
+		}
+		made.WriteString(text[last:edit.At])
+		made.WriteString(edit.New)
+		last = edit.At + edit.Cut
+	}
+	made.WriteString(text[last:])
+	return made.String()
+}

@@ -46,12 +46,7 @@ func closedInBodies(line string, list []Part) bool {
 // closedInBody: the body of code is empty, so that nothing in it can be closed there.
 func closedInBody(line string, part Part) bool {
 	if part.Kind == parts.Code {
-		return !turns(line[part.From:part.To])
+		return !strings.ContainsFunc(line[part.From:part.To], isTurn)
 	}
 	return bidi.Closed(line[part.Body:part.End])
-}
-
-// turns tells whether a text holds a sign that turns the direction, or ends that.
-func turns(text string) bool {
-	return strings.ContainsFunc(text, func(r rune) bool { return bidi.ClassOf(r).Turns() })
 }
